@@ -447,7 +447,26 @@ func TestGetAtATextLongerThanDataMayBe(t *testing.T) { // P3.2
 		for _, n := range []int{65, 66, 127, 128, 256, 320, 65535} {
 			for _, tail := range [][]api.Span{nil, {long(5)}, wrong()} {
 				l := slices.Concat(head, []api.Span{long(n)}, tail)
-				expectAmiss(t, rawAll(l...), len(rawAll(head...))+fixed)
+				begin := len(rawAll(head...))
+				expectAmiss(t, rawAll(l...), begin)
+				// A text that isn't there whole is at fault itself.
+				whole := begin + fixed + 2 + n
+				expectAmiss(t, rawAll(l...)[:whole-1], begin+fixed)
+			}
+		}
+	}
+}
+
+func TestGetAtAWrongSpanWithALongText(t *testing.T) { // P3.2
+	for _, s := range wrong() {
+		for _, n := range []int{65, 256, 65535} {
+			s.Data = filled(n)
+			for _, head := range [][]api.Span{nil, {long(5)}, samples()} {
+				begin := len(rawAll(head...))
+				b := rawAll(append(head, s)...)
+				expectAmiss(t, b, begin)
+				expectAmiss(t, join(b, filled(3)), begin)
+				expectAmiss(t, b[:len(b)-1], begin+fixed)
 			}
 		}
 	}
@@ -496,12 +515,14 @@ func TestGetAtSeveralFaults(t *testing.T) { // P3.2, R1
 		{"one that may not be, and too few spans", join(count(9), raw(bad)), ahead},
 		{"one that may not be, and bytes left", join(rawAll(good, bad), []byte{1}), second},
 		{"one that may not be, and a large text behind it", rawAll(bad, large), ahead},
-		{"a large text, and one that may not be behind it", rawAll(good, large, bad), second + fixed},
-		{"a large text, and bytes left", join(rawAll(large), []byte{1}), ahead + fixed},
-		{"a large text, and a cut one behind it", cut(rawAll(large, good), 3), ahead + fixed},
+		{"a large text, and one that may not be behind it", rawAll(good, large, bad), second},
+		{"a large text, and bytes left", join(rawAll(large), []byte{1}), ahead},
+		{"a large text, and a cut one behind it", cut(rawAll(large, good), 3), ahead},
 		{"a large text that is cut, too", cut(rawAll(good, large), 3), second + fixed},
-		{"two large texts", rawAll(good, large, large), second + fixed},
-		{"one that may not be, with a large text", rawAll(good, badLarge), second + fixed},
+		{"a large text, and too few spans", join(count(9), raw(large)), ahead},
+		{"one that may not be, with a large text that is cut", cut(rawAll(good, badLarge), 1), second + fixed},
+		{"two large texts", rawAll(good, large, large), second},
+		{"one that may not be, with a large text", rawAll(good, badLarge), second},
 		{"one that may not be, its text cut", cut(rawAll(good, badText), 1), second + fixed},
 		{"one that may not be, its text's length cut", cut(rawAll(good, bad), 1), second + fixed},
 		{"one that may not be, its End cut", cut(rawAll(good, bad), 3), second + 24},
@@ -679,11 +700,11 @@ func wantAmiss(b []byte) int {
 			return text
 		}
 		n := int(b[text])<<8 | int(b[text+1])
-		if n > maxData || len(b) < text+2+n {
+		if len(b) < text+2+n {
 			return text
 		}
 		start, end := binary.BigEndian.Uint64(b[at+16:]), binary.BigEndian.Uint64(b[at+24:])
-		if start > end || end > maxTime {
+		if start > end || end > maxTime || n > maxData {
 			return at
 		}
 		at = text + 2 + n
@@ -714,7 +735,7 @@ func hold(t *testing.T, b []byte) {
 }
 
 func TestAnyAlteredByte(t *testing.T) { // P1 of DOC.md, P3.2
-	for _, l := range [][]api.Span{nil, {{}}, {long(2), long(0), long(64)}, samples()} {
+	for _, l := range [][]api.Span{nil, {{}}, {long(2), long(0), long(64)}, {long(65), long(66)}, samples()} {
 		b := rawAll(l...)
 		for i, was := range b {
 			for _, x := range []byte{0, 1, 2, 3, 63, 64, 65, 127, 128, 254, 255, was + 1, was - 1} {
@@ -763,6 +784,7 @@ func FuzzGet(f *testing.F) {
 	f.Add(rawAll(samples()...))
 	f.Add(rawAll(long(3), long(0), wrong()[0]))
 	f.Add(rawAll(long(65)))
+	f.Add(rawAll(long(65))[:100])
 	f.Add(append(rawAll(long(1)), 7))
 	f.Fuzz(hold)
 }
